@@ -1,0 +1,1 @@
+"""Elderlogs: long works that newer editions play again."""

@@ -1,0 +1,14 @@
+"""README.md: what it shows is what the program returns."""
+
+import doctest
+import pathlib
+import unittest
+
+README = pathlib.Path(__file__).resolve().parent.parent / "README.md"
+
+
+class Readme(unittest.TestCase):
+    def test_its_examples(self):
+        result = doctest.testfile(str(README), module_relative=False)
+        self.assertGreater(result.attempted, 5)
+        self.assertEqual(result.failed, 0)
