@@ -25,13 +25,8 @@ class Edition:
     @classmethod
     def read(cls, text):
         """Return the edition with this text."""
-        lines = text.split("\n")
-        drops = names_behind("drops", lines[0])
-        if drops is None:
-            raise InvalidText(0)
-        if len(lines) == 1:
-            raise InvalidText(1)
-        return cls([_read_row(line, at) for at, line in enumerate(lines[1:], start=1)], drops)
+        drops, rows = read_parts(text.split("\n"), 0)
+        return cls(rows, drops)
 
     def row(self, place):
         """Return the row at a place."""
@@ -75,6 +70,16 @@ class Edition:
 
     def __str__(self):
         return str(self._text)
+
+
+def read_parts(lines, at):
+    """Return the drops and the rows that an edition's lines tell, of which the first one has this number."""
+    drops = names_behind("drops", lines[0]) if len(lines) > 0 else None
+    if drops is None:
+        raise InvalidText(at)
+    if len(lines) == 1:
+        raise InvalidText(at + 1)
+    return drops, [_read_row(line, number) for number, line in enumerate(lines[1:], start=at + 1)]
 
 
 def _wrong(rows, drops):

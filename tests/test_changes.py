@@ -5,18 +5,8 @@ import unittest
 
 from elderlogs.editions import Edition
 from elderlogs.errors import InvalidEdition, InvalidText, LogError, NoPlace
-from elderlogs.rows import Ask, End, Gate, Note, Row
-from tests.values import NAMES, NO_NAMES, any_values
-
-E0 = "drops\np ask a ok q\nq ask b ok r\nr ask d ok s\ns end"
-E1 = ("drops\np ask a ok q\nq mark m t u\nt ask c ok s\nu ask b ok v\nv mark n w r\nw ask g ok s\nr ask d ok s\n"
-      "s end")
-E2 = "drops\np ask a ok q\nq mark m t u\nt ask c ok s\nu ask b ok r\nr ask d ok s\ns end"
-
-
-def edition_of(rows, drops=""):
-    """The edition with rows of these texts."""
-    return Edition([Row.read(part) for part in rows.split("; ")], drops.split())
+from elderlogs.rows import Ask, End, Gate, Note
+from tests.values import E0, E1, E2, NAMES, NO_NAMES, any_values, edition_of
 
 
 def rows_of(edition):

@@ -15,12 +15,22 @@ CLASSES = {
     "rows": {"Row": None, "Ask": ["place", "name", "ways"], "Note": ["place", "word", "then"],
              "Gate": ["place", "mark", "newer", "elder"], "End": ["place"]},
     "editions": {"Edition": ["rows", "drops"]},
+    "logs": {"Played": None},
+    "chains": {"Chain": ["editions", "due"]},
+    "works": {"Story": None},
 }
 
 METHODS = {
     ("rows", "Row"): {"read": ["text"], "__eq__": None, "__str__": []},
     ("editions", "Edition"): {"row": ["place"], "putting": ["row"], "without_mark": ["mark"], "read": ["text"],
                               "__len__": [], "__eq__": None, "__str__": []},
+    ("chains", "Chain"): {"without": ["at"], "newest": ["edition"], "read": ["text"], "__len__": [],
+                          "__getitem__": None, "__add__": None, "__eq__": None, "__str__": []},
+}
+
+FUNCTIONS = {
+    "logs": {"log_text": ["log"], "read_log": ["text"], "replay": ["edition", "log"]},
+    "works": {"play": ["chain", "events"]},
 }
 
 
@@ -46,6 +56,14 @@ class Interface(unittest.TestCase):
                     made = getattr(importlib.import_module(f"elderlogs.{module}"), name)
                     with self.subTest(module=module, name=name):
                         self.assertEqual(list(inspect.signature(made.__init__).parameters)[1:], parameters)
+
+    def test_functions_are_defined_in_their_files(self):
+        for module, functions in FUNCTIONS.items():
+            for name, parameters in functions.items():
+                with self.subTest(module=module, name=name):
+                    self.assertIsInstance(defined(module)[name], ast.FunctionDef)
+                    made = getattr(importlib.import_module(f"elderlogs.{module}"), name)
+                    self.assertEqual(list(inspect.signature(made).parameters), parameters)
 
     def test_methods_are_defined_in_the_class_itself(self):
         for (module, name), methods in METHODS.items():

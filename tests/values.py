@@ -2,9 +2,18 @@
 
 import re
 
+from elderlogs.chains import Chain
 from elderlogs.editions import Edition
 from elderlogs.errors import InvalidFault, InvalidText, NoEdition, NoPlace
-from elderlogs.rows import Ask, End, Gate, Note
+from elderlogs.logs import replay
+from elderlogs.rows import Ask, End, Gate, Note, Row
+from elderlogs.works import play
+
+# The texts of the three editions of the document's examples.
+E0 = "drops\np ask a ok q\nq ask b ok r\nr ask d ok s\ns end"
+E1 = ("drops\np ask a ok q\nq mark m t u\nt ask c ok s\nu ask b ok v\nv mark n w r\nw ask g ok s\nr ask d ok s\n"
+      "s end")
+E2 = "drops\np ask a ok q\nq mark m t u\nt ask c ok s\nu ask b ok r\nr ask d ok s\ns end"
 
 NAMES = ["a", "z", "m", "abcd", "zzzz", "az", "ask", "end", "mark", "note", "due"]
 
@@ -14,6 +23,11 @@ NO_NAMES = [
     "\n", "a\n", "\na", "a\t", "a\r", "\x00", "%", "a.", "\xe9", "\xdf", "\xaa", "\u0131", "\u017f", "\uff41",
     "a\u0301", "\u4e2d", "a" * 1500,
 ]
+
+
+def edition_of(rows, drops=""):
+    """The edition with rows of these texts."""
+    return Edition([Row.read(part) for part in rows.split("; ")], drops.split())
 
 
 def nested(value, depth, kind):
@@ -28,6 +42,8 @@ def things():
     objects = [
         End("a"), Note("a", "w", "b"), Gate("a", "m", "b", "b"), Ask("a", "b", [("c", "d")]),
         Edition([End("a")]), Edition([End("a")], ["m"]), InvalidText(0), InvalidFault(), NoPlace("a"), NoEdition(1),
+        Chain([Edition([End("a")])]), Chain([Edition([End("a")]), Edition([End("b")])], ["a"]),
+        replay(Edition([End("a")]), []), play(Chain([Edition([End("a")])]), ["begin 0"]),
     ]
     return [0, 1, -1, 2, 97, 10 ** 30, True, False, None] + NAMES + NO_NAMES + objects
 
@@ -45,6 +61,8 @@ def any_values():
         values += [kind([("a", "b"), ("a", "c")]), kind([("a", "b", "c")]), kind([("a",)]), kind(["ab"]), kind([()])]
         values += [kind([End("a"), "a"]), kind([[End("a")]]), kind([(End("a"),)]), kind([End("a"), None])]
         values += [kind([("a", "b"), ("c", "d")]), kind([(End("a"), "b")]), kind([("a", [])]), kind([([], "a")])]
+        values += [kind([("a",), ("b",)]), kind([("a",), ["b"]]), kind([("a", "b"), ("m",), ()]), kind([("a", True)])]
+        values += [kind(["begin 0"]), kind(["begin 0", "mark"]), kind([["begin 0"]]), kind(["begin", 0])]
     return values
 
 
@@ -75,3 +93,18 @@ def are_rows(value):
     if not isinstance(value, (list, tuple)) or not value:
         return False
     return all(isinstance(row, (Ask, Note, Gate, End)) for row in value)
+
+
+def are_editions(value):
+    """Whether this, any value, is a sequence of at least one edition."""
+    return isinstance(value, (list, tuple)) and len(value) > 0 and all(isinstance(item, Edition) for item in value)
+
+
+def wrong_entry(value):
+    """The index that tells why this, any value, is no log, or None if it is one."""
+    if not isinstance(value, (list, tuple)):
+        return 0
+    for at, entry in enumerate(value):
+        if not (isinstance(entry, tuple) and len(entry) in (1, 2) and all(is_name(name) for name in entry)):
+            return at
+    return None
