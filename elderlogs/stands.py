@@ -17,7 +17,7 @@ def next_stand(edition, stand, entry):
     # The gate where it waits is not decided; behind its elder way another one may wait for the same entry.
     while isinstance(row, Gate):
         newer = entry == (row.mark,)
-        ways = _with_way(ways, row.mark, newer)
+        ways = with_way(ways, row.mark, newer)
         place, ways, word = _settled(edition, place, ways, word)
         if newer:
             return (place, ways, word), True
@@ -29,20 +29,25 @@ def next_stand(edition, stand, entry):
     return (place, ways, word), False
 
 
-def _settled(edition, place, ways, word):
-    """Return the stand to which the notes, and the gates that are decided, lead from a place."""
-    while True:
-        row = edition.row(place)
-        if isinstance(row, Note):
-            place = row.then
-            word = row.word
-        elif isinstance(row, Gate) and _way(ways, row.mark) is not None:
-            place = row.newer if _way(ways, row.mark) else row.elder
-        else:
-            return place, ways, word
+def entries_at(row):
+    """Return the events by which an edition at a row (None: it is stuck) puts an entry behind the log, with these."""
+    if isinstance(row, Gate):
+        return [("mark", (row.mark,))]
+    if isinstance(row, Ask):
+        return [(f"answer {answer}", (row.name, answer)) for answer, _ in row.ways]
+    return []
 
 
-def _way(ways, mark):
+def passed(edition, place, ways):
+    """Return the places to which the notes, and the gates that are decided, lead from one on: this and all others."""
+    places = []
+    while place is not None:
+        places.append(place)
+        place = _led(edition.row(place), ways)
+    return places
+
+
+def way_of(ways, mark):
     """Return whether the newer way was decided for a mark, or None if it was not decided."""
     for decided, newer in ways:
         if decided == mark:
@@ -50,6 +55,24 @@ def _way(ways, mark):
     return None
 
 
-def _with_way(ways, mark, newer):
+def with_way(ways, mark, newer):
     """Return the ways with one more mark, ascending."""
     return tuple(sorted([*ways, (mark, newer)]))
+
+
+def _settled(edition, place, ways, word):
+    """Return the stand to which the notes, and the gates that are decided, lead from a place."""
+    places = passed(edition, place, ways)
+    rows = [edition.row(on) for on in places]
+    words = [row.word for row in rows if isinstance(row, Note)]
+    return places[-1], ways, words[-1] if len(words) > 0 else word
+
+
+def _led(row, ways):
+    """Return the place to which a row leads at once: a note, or a gate that is decided; None if an edition stays."""
+    if isinstance(row, Note):
+        return row.then
+    newer = way_of(ways, row.mark) if isinstance(row, Gate) else None
+    if newer is None:
+        return None
+    return row.newer if newer else row.elder

@@ -1,8 +1,10 @@
 """Works: what comes of their events, and the faults that they meet."""
 
 from elderlogs.errors import InvalidEvent
+from elderlogs.judging import is_otherwise, met_faults
 from elderlogs.logs import replay
-from elderlogs.rows import Ask, End, Gate
+from elderlogs.rows import End
+from elderlogs.stands import entries_at
 
 
 class Story:
@@ -42,23 +44,17 @@ def next_story(chain, story, event):
     played = replay(chain.editions[live], log)
     now = Story(live, log, played, ())
     before = () if story is None else story.faults
-    return Story(live, log, played, tuple(sorted(set([*before, *met_faults(chain, story, now)]))))
+    return Story(live, log, played, tuple(sorted(set([*before, *faults_between(chain, story, now)]))))
 
 
-def met_faults(chain, story, now):
+def faults_between(chain, story, now):
     """Return the ascending tuple of the faults that are met by the event that leads from one story to the next one."""
     row = _row_of(chain, now)
-    if row is None:
-        return ("stuck",)
-    answered = [entry[0] for entry in now.log if len(entry) == 2]
-    words = []
-    if isinstance(row, End) and not all([name in answered for name in chain.due]):
-        words.append("never")
-    if _is_otherwise(chain, story, now):
-        words.append("otherwise")
-    if isinstance(row, Ask) and row.name in chain.due and row.name in answered:
-        words.append("twice")
-    return tuple(words)
+    asked = [entry[0] for entry in now.log if len(entry) == 2]
+    turned = False
+    if story is not None and story.live < now.live:
+        turned = is_otherwise(_row_of(chain, story), story.word, row, now.word)
+    return met_faults(chain.due, row, asked, turned)
 
 
 def _begun(chain, event):
@@ -90,12 +86,9 @@ def _number_behind(word, event, first, end):
 
 def _entry_of(row, event):
     """Return the entry that this event, any value, puts behind the log at a row (None: it is stuck), or None."""
-    if isinstance(row, Gate) and event == "mark":
-        return (row.mark,)
-    if isinstance(row, Ask):
-        for answer, _ in row.ways:
-            if event == f"answer {answer}":
-                return (row.name, answer)
+    for name, entry in entries_at(row):
+        if event == name:
+            return entry
     return None
 
 
@@ -104,11 +97,3 @@ def _row_of(chain, story):
     if story.stuck is not None:
         return None
     return chain.editions[story.live].row(story.place)
-
-
-def _is_otherwise(chain, story, now):
-    """Tell whether a later edition took over at an ask, and stands elsewhere than at a gate, with another word."""
-    if story is None or story.live == now.live or story.word == now.word:
-        return False
-    row = _row_of(chain, now)
-    return isinstance(_row_of(chain, story), Ask) and (isinstance(row, Ask) or isinstance(row, End))

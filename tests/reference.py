@@ -7,6 +7,10 @@ import functools
 import random
 import re
 
+from elderlogs.chains import Chain
+from elderlogs.editions import Edition
+from elderlogs.errors import InvalidEdition
+
 EVENT = re.compile("(begin|newer) (0|[1-9][0-9]*)|(answer) ([a-z]{1,4})|(mark)")
 
 
@@ -17,11 +21,20 @@ def words_of(text):
     return lines[0].split(" ")[1:], {line.split(" ")[0]: line.split(" ") for line in lines[1:]}
 
 
-def told(text, log):
-    """Where the edition with a text is behind a log: the place, the ways, the word, the index at which it is stuck."""
+def told(text, log, stand=None, trail=None):
+    """Where the edition with a text is behind a log: the place, the ways, the word, the index at which it is stuck.
+
+    It begins at its first place, or goes on from a stand; `trail` keeps the places behind the last entry it used up.
+    """
     drops, rows = words_of(text)
-    place, ways, word, at = next(iter(rows)), {}, None, 0
+    place, ways, word = (next(iter(rows)), (), None) if stand is None else stand
+    ways, at, used = dict(ways), 0, 0
     while True:
+        if trail is not None:
+            if at > used:
+                trail.clear()
+                used = at
+            trail.append(place)
         entry = log[at] if at < len(log) else None
         row = rows[place]
         if entry is not None and len(entry) == 1 and entry[0] in drops:
@@ -134,3 +147,50 @@ def some_edition(chance, elder=None):
 def chances(seed):
     """A source of choices that is the same in each run."""
     return random.Random(seed)
+
+
+def some_chain(chance):
+    """A chain of some editions of which each one is much like the elder one."""
+    texts = []
+    while len(texts) < 3:
+        text = some_edition(chance, texts[-1] if texts else None)
+        try:
+            Edition.read(text)
+        except InvalidEdition:
+            continue
+        texts.append(text)
+    return Chain([Edition.read(text) for text in texts[:chance.choice([1, 2, 3, 3])]],
+                 chance.sample("xyz", chance.choice([0, 1, 1, 2])))
+
+
+def some_marked_chain(chance):
+    """A chain of an edition, and of one or two others that have asks put in behind marks, or left out by them."""
+    asked = ["x", "y", "z", "x"]
+    elder = ["drops", *[f"{place} ask {chance.choice(asked)} y {then} n {chance.choice('abcde')}"
+                        for place, then in zip("abcd", "bcde")], "e end"]
+    texts = ["\n".join(elder)]
+    marks = chance.sample("mno", 3)
+    while len(texts) < chance.choice([2, 2, 3]):
+        lines = texts[-1].split("\n")
+        for _ in range(chance.choice([1, 2, 2, 3])):
+            lines = with_gate(chance, lines, marks)
+        try:
+            Edition.read("\n".join(lines))
+        except InvalidEdition:
+            continue
+        texts.append("\n".join(lines))
+    return Chain([Edition.read(text) for text in texts], chance.sample("xyz", chance.choice([0, 1])))
+
+
+def with_gate(chance, lines, marks):
+    """The lines of an edition where one way leads to one more gate, and from there to something else or where it led.
+    """
+    words = [line.split(" ") for line in lines]
+    at = chance.choice([at for at, row in enumerate(words) if row[1:2] == ["ask"]])
+    way = chance.choice([4, 4, 6]) if len(words[at]) > 6 else 4
+    then, letter = words[at][way], "abcdefghijklmnopqrstuvwxyz"[len(lines)]
+    gate, behind = f"g{letter}", f"h{letter}"
+    words[at][way] = gate
+    row = chance.choice([f"{behind} ask {chance.choice('ux')} y {then}", f"{behind} note v {then}",
+                         f"{behind} ask {chance.choice('xyz')} y {chance.choice('abcde')} n {then}"])
+    return [*[" ".join(row) for row in words], f"{gate} mark {chance.choice(marks)} {behind} {then}", row]

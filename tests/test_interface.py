@@ -31,6 +31,10 @@ METHODS = {
 FUNCTIONS = {
     "logs": {"log_text": ["log"], "read_log": ["text"], "replay": ["edition", "log"]},
     "works": {"play": ["chain", "events"]},
+    "deciding": {"happens": ["chain", "fault"], "faults": ["chain"], "story": ["chain", "fault"],
+                 "comes": ["chain", "at", "place"]},
+    "papers": {"paper": ["chain", "fault"], "paper_holds": ["chain", "fault", "value"]},
+    "marks": {"least_marks": ["chain", "wanted"], "lying": ["chain", "mark"], "can_go": ["chain", "mark"]},
 }
 
 

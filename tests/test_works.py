@@ -4,9 +4,9 @@ import unittest
 
 from elderlogs.chains import Chain
 from elderlogs.editions import Edition
-from elderlogs.errors import InvalidEdition, InvalidEvent, LogError
+from elderlogs.errors import InvalidEvent, LogError
 from elderlogs.works import Story, play
-from tests.reference import chances, some_edition, story_of
+from tests.reference import chances, some_chain, story_of
 from tests.values import E0, E1, E2, any_values, edition_of
 
 EDITIONS = [Edition.read(E0), Edition.read(E1), Edition.read(E2)]
@@ -556,19 +556,6 @@ class Compared(Checked):
     EVENTS = ["begin 0", "begin 1", "begin 2", "mark", "answer y", "answer n", "answer k", "newer 0", "newer 1",
               "newer 2", "newer 3", "newer 01", "answer", None]
 
-    def some_chain(self, chance):
-        """A chain of editions of which each one is much like the elder one."""
-        texts = []
-        while len(texts) < 3:
-            text = some_edition(chance, texts[-1] if texts else None)
-            try:
-                Edition.read(text)
-            except InvalidEdition:
-                continue
-            texts.append(text)
-        return Chain([Edition.read(text) for text in texts[:chance.choice([1, 2, 3, 3])]],
-                     chance.sample("xyz", chance.choice([0, 1, 1, 2])))
-
     def same(self, chain, events, met):
         """Whether these events can happen, when both tell the same; the faults that are met are counted."""
         expected = referred(chain, events)
@@ -587,7 +574,7 @@ class Compared(Checked):
         chance = chances(2)
         met = {}
         for _ in range(150):
-            chain = self.some_chain(chance)
+            chain = some_chain(chance)
             for _ in range(3):
                 events = []
                 can = [[event] for event in self.EVENTS if self.same(chain, [event], met)]
