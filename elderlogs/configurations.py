@@ -2,7 +2,7 @@
 
 from elderlogs.judging import is_otherwise, met_faults
 from elderlogs.rows import End
-from elderlogs.stands import entries_at, first_stand, next_stand
+from elderlogs.stands import entries_at, first_stand, stand_behind
 
 
 class Roads:
@@ -52,12 +52,9 @@ class Roads:
 
     def _next(self, number, stand, entry):
         """Return the stand of the edition with this number behind one more entry."""
-        if stand is None:
-            return None
         table = self._behind[number]
         if (stand, entry) not in table:
-            then, used = next_stand(self._editions[number], stand, entry)
-            table[stand, entry] = then if used else None
+            table[stand, entry] = stand_behind(self._editions[number], stand, entry)
         return table[stand, entry]
 
     def _asked(self, asked, entry):

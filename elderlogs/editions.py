@@ -1,7 +1,7 @@
 """Editions of a long work."""
 
 from elderlogs.errors import InvalidEdition, InvalidText, NoPlace
-from elderlogs.names import are_unlike_names, is_name, names_behind
+from elderlogs.names import are_unlike_names, names_behind
 from elderlogs.rows import Ask, Gate, Note, Row
 
 
@@ -30,8 +30,8 @@ class Edition:
 
     def row(self, place):
         """Return the row at a place."""
-        # What is no name may be a list, which can't be looked up in a dict.
-        if not is_name(place) or place not in self._table:
+        # What is no string may be a list, which can't be looked up in a dict.
+        if not isinstance(place, str) or place not in self._table:
             raise NoPlace(place)
         return self._table[place]
 

@@ -29,6 +29,29 @@ def next_stand(edition, stand, entry):
     return (place, ways, word), False
 
 
+def stand_behind(edition, stand, entry):
+    """Return the stand of an edition behind one more entry, None if it is stuck: at this one, or already."""
+    if stand is None:
+        return None
+    then, used = next_stand(edition, stand, entry)
+    return then if used else None
+
+
+def taken_entries(edition, stand):
+    """Return the entries that an edition uses up when they are the next ones at a stand (None: it is stuck)."""
+    if stand is None:
+        return []
+    found = [(mark,) for mark in edition.drops]
+    place, ways, _ = stand
+    row = edition.row(place)
+    # Any entry but its mark decides the elder way of the gate where it waits; there another one may take it.
+    while isinstance(row, Gate):
+        found.append((row.mark,))
+        ways = with_way(ways, row.mark, False)
+        row = edition.row(passed(edition, row.elder, ways)[-1])
+    return [*found, *[entry for _, entry in entries_at(row)]]
+
+
 def entries_at(row):
     """Return the events by which an edition at a row (None: it is stuck) puts an entry behind the log, with these."""
     if isinstance(row, Gate):

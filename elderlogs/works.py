@@ -49,12 +49,19 @@ def next_story(chain, story, event):
 
 def faults_between(chain, story, now):
     """Return the ascending tuple of the faults that are met by the event that leads from one story to the next one."""
-    row = _row_of(chain, now)
+    row = row_of(chain, now)
     asked = [entry[0] for entry in now.log if len(entry) == 2]
     turned = False
     if story is not None and story.live < now.live:
-        turned = is_otherwise(_row_of(chain, story), story.word, row, now.word)
+        turned = is_otherwise(row_of(chain, story), story.word, row, now.word)
     return met_faults(chain.due, row, asked, turned)
+
+
+def row_of(chain, story):
+    """Return the row at which the live edition stands or waits, or None if it is stuck."""
+    if story.stuck is not None:
+        return None
+    return chain.editions[story.live].row(story.place)
 
 
 def _begun(chain, event):
@@ -65,7 +72,7 @@ def _begun(chain, event):
 
 def _gone_on(chain, story, event):
     """Return the live edition and the log behind a further event, or None if it can't happen."""
-    row = _row_of(chain, story)
+    row = row_of(chain, story)
     if isinstance(row, End):
         return None
     later = _number_behind("newer", event, story.live + 1, len(chain))
@@ -90,10 +97,3 @@ def _entry_of(row, event):
         if event == name:
             return entry
     return None
-
-
-def _row_of(chain, story):
-    """Return the row at which the live edition stands or waits, or None if it is stuck."""
-    if story.stuck is not None:
-        return None
-    return chain.editions[story.live].row(story.place)

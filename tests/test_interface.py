@@ -18,6 +18,8 @@ CLASSES = {
     "logs": {"Played": None},
     "chains": {"Chain": ["editions", "due"]},
     "works": {"Story": None},
+    "live": {"Work": ["chain", "at"]},
+    "desk": {"Desk": []},
 }
 
 METHODS = {
@@ -26,6 +28,9 @@ METHODS = {
                               "__len__": [], "__eq__": None, "__str__": []},
     ("chains", "Chain"): {"without": ["at"], "newest": ["edition"], "read": ["text"], "__len__": [],
                           "__getitem__": None, "__add__": None, "__eq__": None, "__str__": []},
+    ("live", "Work"): {"events": None, "played": None, "asks": None, "do": ["event"], "several": ["events"],
+                       "undo": [], "trial": [], "within": ["deed"], "__len__": [], "__iadd__": None},
+    ("desk", "Desk"): {"say": ["command"]},
 }
 
 FUNCTIONS = {
@@ -35,7 +40,11 @@ FUNCTIONS = {
                  "comes": ["chain", "at", "place"]},
     "papers": {"paper": ["chain", "fault"], "paper_holds": ["chain", "fault", "value"]},
     "marks": {"least_marks": ["chain", "wanted"], "lying": ["chain", "mark"], "can_go": ["chain", "mark"]},
+    "ways": {"safe_ways": ["chain", "place", "answer", "wanted"], "needless": ["chain", "wanted"]},
+    "comparing": {"alike": ["p", "q"], "parting": ["p", "q"], "wrote": ["chain", "log"], "began": ["chain", "log"]},
 }
+
+DEFAULTS = {("editions", "Edition"): {"drops": ()}, ("chains", "Chain"): {"due": ()}, ("live", "Work"): {"at": 0}}
 
 
 def defined(module):
@@ -58,8 +67,12 @@ class Interface(unittest.TestCase):
             for name, parameters in classes.items():
                 if parameters:
                     made = getattr(importlib.import_module(f"elderlogs.{module}"), name)
+                    told = inspect.signature(made).parameters
                     with self.subTest(module=module, name=name):
-                        self.assertEqual(list(inspect.signature(made.__init__).parameters)[1:], parameters)
+                        self.assertEqual(list(told), parameters)
+                        defaults = DEFAULTS.get((module, name), {})
+                        for word in told:
+                            self.assertEqual(told[word].default, defaults.get(word, inspect.Parameter.empty))
 
     def test_functions_are_defined_in_their_files(self):
         for module, functions in FUNCTIONS.items():
@@ -80,9 +93,15 @@ class Interface(unittest.TestCase):
                         self.assertEqual([word for word in told if word != "self"], parameters)
 
     def test_read_is_a_class_method(self):
-        for module, name in METHODS:
+        for module, name in (("rows", "Row"), ("editions", "Edition"), ("chains", "Chain")):
             made = getattr(importlib.import_module(f"elderlogs.{module}"), name)
             self.assertIsInstance(vars(made)["read"], classmethod)
+
+    def test_all_modules_are_there(self):
+        for module in ("errors", "rows", "editions", "logs", "chains", "works", "deciding", "papers", "marks", "ways",
+                       "comparing", "live", "desk"):
+            self.assertTrue({*CLASSES.get(module, {}), *FUNCTIONS.get(module, {})})
+            self.assertTrue((PACKAGE / f"{module}.py").is_file())
 
 
 class Form(unittest.TestCase):

@@ -206,7 +206,8 @@ class Forms(Checked):
                             ((("m", True), ("m", False), ("n", True)), False), ((("n", True), ("n", True)), False)):
             self.holds(chain, "stuck", (*told, (0, (("e", ways, None),), ())), right)
         for asked, right in ((("a", "b"), True), (("b", "a"), False), (("a",), True), (("b",), True),
-                             (("b", "b"), False), (("a", "b", "b"), False), (("a", "b", "c"), False), (("c",), False), ((), True)):
+                             (("b", "b"), False), (("a", "b", "b"), False), (("a", "b", "c"), False), (("c",), False),
+                             ((), True)):
             self.holds(chain, "stuck", (*told, (0, (("e", (), None),), asked)), right)
 
     def test_at_a_gate_whose_mark_is_not_decided(self):

@@ -3,8 +3,10 @@
 import re
 
 from elderlogs.chains import Chain
+from elderlogs.desk import Desk
 from elderlogs.editions import Edition
 from elderlogs.errors import InvalidFault, InvalidText, NoEdition, NoPlace
+from elderlogs.live import Work
 from elderlogs.logs import replay
 from elderlogs.rows import Ask, End, Gate, Note, Row
 from elderlogs.works import play
@@ -44,6 +46,7 @@ def things():
         Edition([End("a")]), Edition([End("a")], ["m"]), InvalidText(0), InvalidFault(), NoPlace("a"), NoEdition(1),
         Chain([Edition([End("a")])]), Chain([Edition([End("a")]), Edition([End("b")])], ["a"]),
         replay(Edition([End("a")]), []), play(Chain([Edition([End("a")])]), ["begin 0"]),
+        Work(Chain([Edition([End("a")])])), Work(Chain([Edition([End("a")])])).trial(), Desk(),
     ]
     return [0, 1, -1, 2, 97, 10 ** 30, True, False, None] + NAMES + NO_NAMES + objects
 
@@ -63,6 +66,7 @@ def any_values():
         values += [kind([("a", "b"), ("c", "d")]), kind([(End("a"), "b")]), kind([("a", [])]), kind([([], "a")])]
         values += [kind([("a",), ("b",)]), kind([("a",), ["b"]]), kind([("a", "b"), ("m",), ()]), kind([("a", True)])]
         values += [kind(["begin 0"]), kind(["begin 0", "mark"]), kind([["begin 0"]]), kind(["begin", 0])]
+        values += [kind(["stuck"]), kind(["never", "otherwise", "stuck", "twice"]), kind([["stuck"]])]
     return values
 
 
