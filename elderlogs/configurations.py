@@ -13,7 +13,7 @@ class Roads:
         self._editions = chain.editions
         self._rows = [{row.place: row for row in edition.rows} for edition in chain.editions]
         # Where an edition goes from a stand by an entry is kept, since many configurations have this stand.
-        self._behind = [{} for _ in chain.editions]
+        self._known = [{} for _ in chain.editions]
 
     def firsts(self):
         """Return the events that begin works, each with the configuration behind it."""
@@ -52,7 +52,7 @@ class Roads:
 
     def _next(self, number, stand, entry):
         """Return the stand of the edition with this number behind one more entry."""
-        table = self._behind[number]
+        table = self._known[number]
         if (stand, entry) not in table:
             table[stand, entry] = stand_behind(self._editions[number], stand, entry)
         return table[stand, entry]

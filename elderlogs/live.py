@@ -54,7 +54,7 @@ class Work:
 
     def do(self, event):
         """Do an event, and return the faults that are met by it."""
-        state, met = self._behind(self._state, event)
+        state, met = self._one_more(self._state, event)
         self._go_to(state)
         return met
 
@@ -64,7 +64,7 @@ class Work:
         found = []
         for at, event in enumerate(events):
             try:
-                state, met = self._behind(state, event)
+                state, met = self._one_more(state, event)
             except InvalidEvent as error:
                 raise Refused(at) from error
             found.append(met)
@@ -89,7 +89,7 @@ class Work:
         with Trial(self) as work:
             return deed(work)
 
-    def _behind(self, state, event):
+    def _one_more(self, state, event):
         """Return the state behind one more event, any value, and the faults that are met by it."""
         events, story = state
         now = next_story(self._chain, story, event)

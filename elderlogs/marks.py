@@ -50,8 +50,9 @@ def _has_all(names, part):
 
 def _with_marks(chain, kept):
     """Return the chain whose newest edition has these of its marks, and goes without all others."""
-    edition = chain.editions[-1]
-    for mark in edition.marks:
+    newest = chain.editions[-1]
+    edition = newest
+    for mark in newest.marks:
         if mark not in kept:
             edition = edition.without_mark(mark)
     return chain.newest(edition)

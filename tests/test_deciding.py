@@ -10,14 +10,9 @@ from elderlogs.errors import InvalidFault, LogError, NoEdition, NoPlace
 from elderlogs.works import play
 from tests.all_works import FAULTS, AllWorks
 from tests.reference import chances, some_chain
-from tests.values import E0, E1, E2, any_values, edition_of
+from tests.values import E0, E1, E2, any_values, chain_of, edition_of
 
 EDITIONS = [Edition.read(E0), Edition.read(E1), Edition.read(E2)]
-
-
-def chain_of(*editions, due=""):
-    """The chain of editions with rows of these texts, or with such and drops."""
-    return Chain([edition_of(*part) if isinstance(part, tuple) else edition_of(part) for part in editions], due.split())
 
 
 class Checked(unittest.TestCase):

@@ -15,7 +15,7 @@ from elderlogs.logs import log_text
 from elderlogs.works import play
 from tests.all_works import FAULTS
 from tests.reference import chances, some_chain
-from tests.values import E0, E1, E2, any_values, edition_of
+from tests.values import E0, E1, E2, any_values, chain_of, edition_of
 
 EDITIONS = [Edition.read(E0), Edition.read(E1), Edition.read(E2)]
 OF_WORKS = ["answer ok", "mark", "newer 1", "where", "log", "undo"]
@@ -25,11 +25,6 @@ OF_CHAINS = ["begin 0", "faults", *[f"story {fault}" for fault in FAULTS]]
 def line(chain):
     """The text of a chain in one line."""
     return str(chain).replace("\n", " ; ")
-
-
-def chain_of(*editions, due=""):
-    """The chain of editions with rows of these texts."""
-    return Chain([edition_of(part) for part in editions], due.split())
 
 
 def state(desk):

@@ -9,14 +9,9 @@ from elderlogs.live import Work
 from elderlogs.rows import Ask
 from elderlogs.works import Story, play
 from tests.reference import chances, met, some_chain, story_of
-from tests.values import E0, E1, E2, any_values, edition_of
+from tests.values import E0, E1, E2, any_values, chain_of
 
 EDITIONS = [Edition.read(E0), Edition.read(E1), Edition.read(E2)]
-
-
-def chain_of(*editions, due=""):
-    """The chain of editions with rows of these texts."""
-    return Chain([edition_of(part) for part in editions], due.split())
 
 
 def told(story):

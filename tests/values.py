@@ -32,6 +32,11 @@ def edition_of(rows, drops=""):
     return Edition([Row.read(part) for part in rows.split("; ")], drops.split())
 
 
+def chain_of(*editions, due=""):
+    """The chain of editions with rows of these texts, or with such and drops."""
+    return Chain([edition_of(*part) if isinstance(part, tuple) else edition_of(part) for part in editions], due.split())
+
+
 def nested(value, depth, kind):
     """The value inside as many lists or tuples."""
     for _ in range(depth):
