@@ -19,7 +19,7 @@ def parting(p, q):
         for log, one, other in level:
             if _shown(p, one) != _shown(q, other):
                 return log
-            # Behind all other entries both are stuck, for good.
+            # Neither is stuck: both show the same, and one of them took each entry so far. Other entries stop both.
             for entry in sorted(set([*taken_entries(p, one), *taken_entries(q, other)])):
                 pair = (stand_behind(p, one, entry), stand_behind(q, other, entry))
                 if pair not in seen:

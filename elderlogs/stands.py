@@ -38,9 +38,7 @@ def stand_behind(edition, stand, entry):
 
 
 def taken_entries(edition, stand):
-    """Return the entries that an edition uses up when they are the next ones at a stand (None: it is stuck)."""
-    if stand is None:
-        return []
+    """Return the entries that an edition uses up when they are the next ones at a stand."""
     found = [(mark,) for mark in edition.drops]
     place, ways, _ = stand
     row = edition.row(place)

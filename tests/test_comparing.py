@@ -192,6 +192,14 @@ class Alike(Checked):
                     "g mark m a h; h mark n b b; a ask x y a; b ask z y b", "n")
         self.parted("g mark m h a; h mark n a a; a ask x y a", "g mark m a a; a ask x y a", "m")
 
+    def test_what_only_the_elder_way_leads_to(self):
+        # Where they wait at the first gate both show the same, and behind its mark, too.
+        for rows in ("g mark m a c", "g mark m a n; n note w c", "g mark m a h; h mark m b c; b ask u y b",
+                     "g mark m a h; h mark n a c", "g mark m a h; h note w i; i mark m b n; n note v c; b ask u y b"):
+            rows += "; a ask x y a; c ask z y "
+            self.parted(rows + "c", rows + "d; d ask k y d", "z y")
+            self.parted(rows + "c", rows + "d; d ask z y c")
+
     def test_rows_that_nothing_leads_to(self):
         self.parted("a ask x y a", "a ask x y a; b ask z y a; c mark m a b; d note w c; e end")
         self.parted(("a ask x y a; b end", "m"), ("a ask x y a; c note w a", "m"))
