@@ -12,7 +12,8 @@ class Roads:
         self._due = chain.due
         self._editions = chain.editions
         self._rows = [{row.place: row for row in edition.rows} for edition in chain.editions]
-        # Where an edition goes from a stand by an entry is kept, since many configurations have this stand.
+        # Many configurations share a row and stands: what an entry leads to is found once, and then looked up.
+        self._entries = [{row.place: entries_at(row) for row in edition.rows} for edition in chain.editions]
         self._known = [{} for _ in chain.editions]
 
     def firsts(self):
@@ -23,23 +24,25 @@ class Roads:
     def further(self, configuration):
         """Return the events that can happen at a configuration, each with the one behind it."""
         live, stands, asked = configuration
-        row = self._row(configuration)
-        if isinstance(row, End):
+        if isinstance(self._row(configuration), End):
             return []
         found = []
-        for event, entry in entries_at(row):
-            found.append((event, (live, self._along(live, stands, entry), self._asked(asked, entry))))
+        if stands[0] is not None:
+            for event, entry in self._entries[live][stands[0][0]]:
+                found.append((event, (live, self._along(live, stands, entry), self._asked(asked, entry))))
         for later in range(live + 1, len(self._editions)):
             found.append((f"newer {later}", (later, stands[later - live:], asked)))
         return found
 
-    def met(self, ahead, configuration):
-        """Return the faults that are met by the event that led to a configuration from the one ahead, or None."""
-        row = self._row(configuration)
-        turned = False
-        if ahead is not None and ahead[0] < configuration[0]:
-            turned = is_otherwise(self._row(ahead), _word(ahead), row, _word(configuration))
-        return met_faults(self._due, row, configuration[2], turned)
+    def is_turned(self, ahead, configuration):
+        """Tell whether a later edition took over between these configurations, and is told otherwise."""
+        if ahead[0] == configuration[0] or ahead[1][0] is None or configuration[1][0] is None:
+            return False
+        return is_otherwise(self._row(ahead), ahead[1][0][2], self._row(configuration), configuration[1][0][2])
+
+    def met(self, configuration, turned):
+        """Return the faults that are met at a configuration; `turned` is whether it is told otherwise by the event."""
+        return met_faults(self._due, self._row(configuration), configuration[2], turned)
 
     def _row(self, configuration):
         """Return the row at which the live edition stands or waits, or None if it is stuck."""
@@ -65,30 +68,26 @@ class Roads:
 
 
 def steps(chain):
-    """Go through the steps of all works, those with fewer events ahead of them first.
+    """Go through the steps of all works, but for those that lead where an earlier step led and tell nothing otherwise.
 
-    Yield for each one the configuration ahead (None: the work is begun), the event, the configuration behind it, and
-    the faults that are met by it.
+    Those with fewer events ahead of them come first. Yield for each one the configuration ahead (None: the work is
+    begun), the event, the configuration behind it, and the faults that are met by it.
     """
     roads = Roads(chain)
     seen = {}
     level = []
     for event, now in roads.firsts():
-        yield None, event, now, roads.met(None, now)
+        yield None, event, now, roads.met(now, False)
         seen[now] = True
         level.append(now)
     while len(level) > 0:
         found = []
         for ahead in level:
             for event, now in roads.further(ahead):
-                yield ahead, event, now, roads.met(ahead, now)
+                turned = roads.is_turned(ahead, now)
+                if turned or now not in seen:
+                    yield ahead, event, now, roads.met(now, turned)
                 if now not in seen:
                     seen[now] = True
                     found.append(now)
         level = found
-
-
-def _word(configuration):
-    """Return the last word of the live edition, or None (also if it is stuck)."""
-    stand = configuration[1][0]
-    return None if stand is None else stand[2]

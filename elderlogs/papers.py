@@ -33,10 +33,10 @@ def paper_holds(chain, fault, value):
 
 def _goes_on(roads, fault, told, now):
     """Tell whether a fault is met neither at a configuration nor by an event there, and the ones behind are told."""
-    if fault in roads.met(None, now):
+    if fault in roads.met(now, False):
         return False
     for _, then in roads.further(now):
-        if then not in told or fault in roads.met(now, then):
+        if then not in told or fault in roads.met(then, roads.is_turned(now, then)):
             return False
     return True
 

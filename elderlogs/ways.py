@@ -15,6 +15,9 @@ def safe_ways(chain, place, answer, wanted):
         raise NoPlace(place)
     if answer not in [taken for taken, _ in row.ways]:
         raise NoPlace(answer)
+    # The works of a chain are works of each longer one, too.
+    if not is_free(chain, wanted):
+        return ()
     places = sorted([other.place for other in newest.rows])
     return tuple([then for then in places if is_free(chain + newest.putting(_led(row, answer, then)), wanted)])
 
